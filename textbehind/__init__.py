@@ -1,0 +1,1 @@
+"""Textbehind: the texts behind told tables."""
