@@ -44,6 +44,24 @@ def lists_by_word(sizes, each, count=5):
                     yield size, some_list(chance, size, manners, words, chance.randint(0, count))
 
 
+def seen_lists():
+    """Lists of every manner and word in texts so short that all of them can be gone over."""
+    yield from lists_by_word([0, 1, 2, 3, 4], 4)
+    yield from lists_by_word([5], 2)
+
+
+def longer_lists():
+    """Letters lists and names lists in texts of 6 and 7 letters."""
+    for size, manners in [(6, ["letters"]), (6, ["names"]), (7, ["letters", "names"]), (7, ["names"])]:
+        chance = random.Random(f"{size} {manners}")
+        for count in (0, 2, 3, 5):
+            yield size, some_list(chance, size, manners, ["pair", "even", "back"], count)
+
+
+def is_letters_list(things):
+    return all(manner == "letters" for manner, _, _, _ in things)
+
+
 def lists_within(value):
     """All lists that stand in a value, each as often as it stands there."""
     found = [value] if isinstance(value, list) else []
@@ -57,6 +75,12 @@ def spoil(value):
     """Changes every list in a value."""
     for found in lists_within(value):
         found.append("spoilt")
+
+
+def split_names(arguments):
+    """What is passed by position, and what the interface lets pass by name alone."""
+    named = {name: value for name, value in arguments.items() if name == "most"}
+    return [value for name, value in arguments.items() if name not in named], named
 
 
 class Calls(unittest.TestCase):
@@ -73,12 +97,13 @@ class Calls(unittest.TestCase):
         self.assertFalse(passed & {id(found) for found in within})
         spoil(first)
         self.assertEqual(repr(arguments), before)
-        self.assertEqual(repr(function(*arguments.values())), shown)
+        positions, named = split_names(arguments)
+        self.assertEqual(repr(function(*positions, **named)), shown)
         self.assertEqual(repr(arguments), before)
 
     def check_wrong(self, function, good, wrong):
-        """For each parameter: each wrong value raises its error, whatever stands in the parameters behind it."""
-        names = list(good)
+        """For each parameter that has an error: each wrong value raises it, whatever stands in those behind it."""
+        names = [name for name in good if name in wrong]
         for at, name in enumerate(names):
             error, values = wrong[name]
             behind = {later: wrong[later][1][0] for later in names[at + 1:]}
@@ -92,6 +117,8 @@ class Calls(unittest.TestCase):
             function(**arguments)
         self.assertIs(type(caught.exception), error, (function.__name__, arguments))
         self.assertIsInstance(caught.exception, BehindError)
+        positions, named = split_names(arguments)
         with self.assertRaises(BehindError) as again:
-            function(*arguments.values())
+            function(*positions, **named)
         self.assertIs(type(again.exception), error, (function.__name__, arguments))
+        return caught.exception

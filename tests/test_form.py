@@ -1,6 +1,7 @@
 """The form of the package: its files, and the names and parameters of the interface in the modules told for them."""
 
 import ast
+import doctest
 import importlib
 import inspect
 import pathlib
@@ -20,6 +21,13 @@ FUNCTIONS = {
               "apart": "size things", "can_be": "size things manner entry", "follows": "size things thing",
               "alike": "size things other", "first_different": "size things other", "halves": "size things",
               "thinned": "size things", "clashes": "size things", "struck": "size things"},
+    "papers": {"refusal": "size things *most", "judge": "size things paper *most"},
+    "letters": {"fewest": "size things", "plainest": "size things", "ways": "size things",
+                "texts_with": "size things count"},
+    "complete": {"first_wrong": "word row", "bars": "word row", "fewest_for": "word row", "plainest_for": "word row",
+                 "texts_over": "word row count", "ends": "fronts", "fronts_of": "ends_row", "next_ends": "ends_row",
+                 "count_ends": "size *most", "beginning": "fronts length", "written": "fronts times place",
+                 "hungry": "count"},
 }
 
 
@@ -57,15 +65,25 @@ class FormTest(unittest.TestCase):
             defined = [node.name for node in tree.body if isinstance(node, (ast.FunctionDef, ast.ClassDef))]
             self.assertEqual([name for name in names if name not in defined], [], module)
 
+    def test_the_rows_of_the_readme(self):
+        found = doctest.testfile(str(FOLDER.parent / "README.md"), module_relative=False)
+        self.assertGreater(found.attempted, 10)
+        self.assertEqual(found.failed, 0)
+
     def test_parameters_have_the_names_of_the_interface(self):
         for module, functions in FUNCTIONS.items():
             for name, parameters in functions.items():
                 function = getattr(importlib.import_module(f"textbehind.{module}"), name)
-                found = inspect.signature(function).parameters.values()
-                self.assertEqual([parameter.name for parameter in found], parameters.split(), name)
+                found = list(inspect.signature(function).parameters.values())
+                shown = [("*" if parameter.kind is parameter.KEYWORD_ONLY else "") + parameter.name
+                         for parameter in found]
+                self.assertEqual(shown, parameters.split(), name)
                 for parameter in found:
-                    self.assertEqual(parameter.kind, inspect.Parameter.POSITIONAL_OR_KEYWORD)
-                    self.assertIs(parameter.default, inspect.Parameter.empty)
+                    if parameter.kind is parameter.KEYWORD_ONLY:
+                        self.assertIsNone(parameter.default)
+                    else:
+                        self.assertEqual(parameter.kind, parameter.POSITIONAL_OR_KEYWORD)
+                        self.assertIs(parameter.default, inspect.Parameter.empty)
 
 
 if __name__ == "__main__":

@@ -4,31 +4,13 @@ import random
 import unittest
 
 from tests import plainly
-from tests.cases import Calls, lists_by_word, some_list, some_thing
+from tests.cases import Calls, is_letters_list, longer_lists, seen_lists, some_list, some_thing
 from tests.wrongs import GOOD, WRONG
 from textbehind import errors
 from textbehind.lists import alike, apart, can_be, classes, clashes, first_different, follows
 from textbehind.lists import freest, halves, is_possible, struck, thinned
 
 PAIR, MIRROR = ("letters", ("pair", 0, 2), "least", 2), ("letters", ("even", 2), "is", 1)
-
-
-def seen_lists():
-    """Lists of every manner and word in texts so short that all of them can be gone over."""
-    yield from lists_by_word([0, 1, 2, 3, 4], 4)
-    yield from lists_by_word([5], 2)
-
-
-def longer_lists():
-    """Letters lists and names lists in texts of 6 and 7 letters."""
-    for size, manners in [(6, ["letters"]), (6, ["names"]), (7, ["letters", "names"]), (7, ["names"])]:
-        chance = random.Random(f"{size} {manners}")
-        for count in (0, 2, 3, 5):
-            yield size, some_list(chance, size, manners, ["pair", "even", "back"], count)
-
-
-def is_letters_list(things):
-    return all(manner == "letters" for manner, _, _, _ in things)
 
 
 class ExampleTest(unittest.TestCase):

@@ -2,13 +2,35 @@
 
 from textbehind import errors
 
-NO_COUNTS = [None, True, False, -1, -10 ** 20, "", "4", b"4", [], [4], (4,), {}, {4: 4}, {4}, object(), int, len]
+
+class Same:
+    """An object that says that it equals everything."""
+
+    def __eq__(self, other):
+        return True
+
+    def __hash__(self):
+        return hash("wrong")
+
+
+class Never:
+    """An object that cannot be compared."""
+
+    def __eq__(self, other):
+        raise RuntimeError("compared")
+
+    __hash__ = None
+
+
+NO_COUNTS = [None, True, False, -1, -10 ** 20, "", "4", b"4", [], [4], (4,), {}, {4: 4}, {4}, object(), int, len,
+             Same(), Never()]
 NO_WORDS = [None, True, 0, 1, "", "Letters", "letters ", "sideways", b"letters", b"front", ["letters"], ["front"],
-            ("names",), ("odd",), {"order": 1}, {"even"}, object(), [[["names"]]]]
+            ("names",), ("odd",), {"order": 1}, {"even"}, object(), [[["names"]]], Same(), Never()]
 NESTED = [[[[]]], ((((),),),), {"a": [{"b": ((None,),)}]}, [("letters",), [("names", [()])]]]
 
 NO_TEXTS = [None, True, 0, 7, "", "0101", b"01", (), (0, 1, 0, 1), {}, {0: 1}, {0, 1}, range(4), object(), [True],
-            [0, 1, False, 1], [0, -1, 0, 0], [0, "1", 0, 0], [None], [[0], 1, 1, 1], [(0,)], [b"0"], ["0"]] + NESTED
+            [0, 1, False, 1], [0, -1, 0, 0], [0, "1", 0, 0], [None], [[0], 1, 1, 1], [(0,)], [b"0"], ["0"],
+            [Same()], [Never()]] + NESTED
 
 NO_MANNERS = NO_WORDS + ["front", "pair", "mirrors", "is", "least"]
 NO_TABLE_WORDS = NO_WORDS + ["letters", "names", "order", "mirror", "Front", "is", "most"]
@@ -19,7 +41,8 @@ NO_ENTRIES = [None, True, 0, "", "front", ("front",), (), [], ["front", 1], ["pa
               ("odd",), ("even", 0), ("even", 4), ("even", True), ("even", 1, 1), ("pair", 0), ("pair", 1, 1),
               ("pair", 2, 1), ("pair", 0, 4), ("pair", -1, 2), ("pair", False, 1), ("pair", 0, True),
               ("pair", 0, 1, 2), ("pair", (0, 1)), ("pair", [0, 1]), ("mirrors", 1), ("Front", 1), ("", 1), (1, 1),
-              (None, 1), (b"front", 1), (("front", 1),), (["front"], 1), {"front": 1}, b"front", object()] + NESTED
+              (None, 1), (b"front", 1), (("front", 1),), (["front"], 1), {"front": 1}, b"front", object(),
+              Same(), Never(), (Same(), 1), (Same(), 0, 1), (Never(), 1), ("front", Same()), ("odd", Never())] + NESTED
 
 GOOD = ("letters", ("front", 1), "is", 2)
 NO_THINGS = [None, True, 3, "", "letters front 1 is 2", (), [], GOOD[:3], GOOD + (0,), list(GOOD), (GOOD,), [GOOD],
@@ -34,7 +57,9 @@ NO_THINGS = [None, True, 3, "", "letters front 1 is 2", (), [], GOOD[:3], GOOD +
              ("letters", ("front", 1), "is", -1), ("letters", ("front", 1), "is", True),
              ("letters", ("front", 1), "least", False), ("letters", ("front", 1), "most", None),
              ("letters", ("front", 1), "is", "2"), ("letters", ("front", 1), "is", [2]),
-             ("letters", ("front", 1), "is", (2,)), {"letters": GOOD}, b"letters", object()] + NESTED
+             ("letters", ("front", 1), "is", (2,)), {"letters": GOOD}, b"letters", object(),
+             Same(), Never(), (Same(),) + GOOD[1:], (Never(),) + GOOD[1:], GOOD[:2] + (Same(), 2),
+             GOOD[:3] + (Same(),), GOOD[:3] + (Never(),)] + NESTED
 NO_THINGS += [("names", entry, "least", 0) for entry in NO_ENTRIES]
 
 NO_LISTS = [None, True, 0, "", "letters front 1 is 2", b"", (), (GOOD,), GOOD, {}, {GOOD}, {GOOD: 1}, range(0),
@@ -56,3 +81,19 @@ WRONG = {
     "other": (errors.InvalidThings, NO_LISTS),
     "row": (errors.InvalidRow, NO_ROWS),
 }
+
+NO_NUMBERS = NO_COUNTS + NESTED
+NO_LIMITS = [value for value in NO_NUMBERS if value is not None]
+WRONG["count"] = (errors.InvalidCount, NO_NUMBERS)
+WRONG["most"] = (errors.InvalidCount, NO_LIMITS)
+
+NO_ROW_AT_ALL = [None, True, 0, 7, "", "000", b"", b"000", (), (0, 0, 0), {}, {0: 0}, {0}, range(3), object(),
+                 [[0, 0, 0]], [None], ["0"], [(0,)], [[]], [True], [False], [-1], [b"0"], [{}], [object()],
+                 Same(), Never(), [Same()], [Never()]] + NESTED
+NO_COMPLETE_WORDS = NO_TABLE_WORDS + ["pair"]
+
+
+def spoilt_rows(row, greatest):
+    """The row with a wrong value, in each of its places; greatest: the greatest values that are right there."""
+    wrong = [None, True, False, -1, -10 ** 30, "0", "", b"0", [0], (0,), [], {}, 10 ** 30, object(), [[0]]]
+    return [row[:at] + [value] + row[at + 1:] for at in range(len(row)) for value in wrong + [greatest[at] + 1]]

@@ -1,8 +1,8 @@
 """The checks of what callers pass: each raises the error that belongs to its parameter."""
 
-from textbehind.errors import InvalidEntry, InvalidManner, InvalidRow, InvalidSize
-from textbehind.errors import InvalidText, InvalidThing, InvalidThings, InvalidWord
-from textbehind.walks import MANNERS, SORTS, WORDS, entries_of, room_of
+from textbehind.errors import InvalidCount, InvalidEntry, InvalidManner, InvalidPlace, InvalidRow
+from textbehind.errors import InvalidSize, InvalidText, InvalidThing, InvalidThings, InvalidWord
+from textbehind.walks import COMPLETE_WORDS, MANNERS, SORTS, WORDS, entries_of, length_of, room_of
 
 
 def is_count(value):
@@ -63,6 +63,16 @@ def is_row(size, word, value):
     return all([is_count(number) and number <= room_of(size, entry) for number, entry in told])
 
 
+def is_complete(word, value):
+    """Whether a value is a list of values as a complete table of the word has them."""
+    return isinstance(value, list) and is_row(length_of(word, len(value)), word, value) and None not in value
+
+
+def is_row_of_ends(value):
+    """Whether a value is a list of integers from 0 on, each at most its index."""
+    return isinstance(value, list) and all([is_count(end) and end <= index for index, end in enumerate(value)])
+
+
 def check_text(text):
     if not is_text(text):
         raise InvalidText("a text is a list of integers from 0 on")
@@ -107,3 +117,47 @@ def check_list(size, things):
 def check_row(size, word, row):
     if not is_row(size, word, row):
         raise InvalidRow("a row has a value from 0 to the room, or None, for each entry of the word")
+
+
+def check_count(count):
+    if not is_count(count):
+        raise InvalidCount("a number of letters is an integer from 0 on")
+
+
+def check_count_within(count, least, most):
+    if not is_count(count) or count < least or count > most:
+        raise InvalidCount(f"here a number is an integer from {least} to {most}")
+
+
+def check_most(most):
+    if most is not None and not is_count(most):
+        raise InvalidCount("a limit of letters is None or an integer from 0 on")
+
+
+def check_times(times):
+    if not is_count(times) or times == 0:
+        raise InvalidCount("a text is written a number of times from 1 on")
+
+
+def check_place(size, place):
+    if not is_count(place) or not 1 <= place < size:
+        raise InvalidPlace("this is no place from 1 on of a text of this length")
+
+
+def check_complete(word, row):
+    """The checks of a complete table: its word, then its values."""
+    if not is_one_of(COMPLETE_WORDS, word):
+        raise InvalidWord("a word of complete tables is front, back, odd, even or mirrors")
+    if not is_complete(word, row):
+        raise InvalidRow("a complete table has a value from 0 to the room for each entry of the word")
+
+
+def check_fronts(fronts):
+    if not is_complete("front", fronts):
+        raise InvalidRow("a table of fronts has a value from 0 to the room for each place from 1 on")
+
+
+def check_ends(ends_row, least):
+    """The check of a row of ends of at least so many values."""
+    if not is_row_of_ends(ends_row) or len(ends_row) < least:
+        raise InvalidRow("a row of ends has integers from 0 on, each at most its index")

@@ -18,14 +18,24 @@ def joined_steps(size, thing):
     return [] if sort == "most" else steps_of(size, entry, value)
 
 
-def freest_text(size, things):
-    """The freest text of a letters list, None if it is impossible."""
+def join_places(heads, steps):
+    """Joins the two places of each step; heads has for each place one that it is joined to, or the place itself."""
+    for place, other in steps:
+        head = head_of(heads, other)
+        heads[head_of(heads, place)] = head
+
+
+def joined_row(size, things):
+    """The text in which just those places are alike that letters things join, its letters numbered as they come."""
     heads = list(range(size))
     for thing in things:
-        for place, other in joined_steps(size, thing):
-            head = head_of(heads, other)
-            heads[head_of(heads, place)] = head
-    row = numbered([head_of(heads, place) for place in range(size)])
+        join_places(heads, joined_steps(size, thing))
+    return numbered([head_of(heads, place) for place in range(size)])
+
+
+def freest_text(size, things):
+    """The freest text of a letters list, None if it is impossible."""
+    row = joined_row(size, things)
     return row if has_all(row, things) else None
 
 
@@ -35,18 +45,22 @@ def unlike_letters(row, steps):
     return sorted({(low, high) for low, high in letters if low != high})
 
 
+def wants_unlike(size, thing):
+    """Whether the thing is false where the two rows are alike for one step more than its value."""
+    _, entry, sort, value = thing
+    return sort != "least" and value < room_of(size, entry)
+
+
+def partings(size, things, row):
+    """For each thing that wants an unlike pair: the pairs of letters of the freest text that it can choose from."""
+    wanting = [thing for thing in things if wants_unlike(size, thing)]
+    return [unlike_letters(row, deciding_steps(size, thing)) for thing in wanting]
+
+
 def parted_letters(size, things, row):
     """The pairs of letters of the freest text that cannot be made alike, as a dict of True."""
-    parted = {}
-    for thing in things:
-        _, entry, sort, value = thing
-        if sort == "least" or value == room_of(size, entry):
-            continue
-        unlike = unlike_letters(row, deciding_steps(size, thing))
-        # The thing wants one unlike pair at these steps: with a choice of pairs, none of them is sure.
-        if len(unlike) == 1:
-            parted[unlike[0]] = True
-    return parted
+    # With a choice of pairs, none of them is sure.
+    return {pairs[0]: True for pairs in partings(size, things, row) if len(pairs) == 1}
 
 
 def denials(size, thing):

@@ -1,11 +1,11 @@
 """Names lists and order lists: all texts of a length up to alikeness, and those that have a list."""
 
-from textbehind.rows import deciding_steps, true_by_steps
+from textbehind.rows import deciding_steps, letters_in, true_by_steps
 
 
 def longer_in_names(row):
     """The row with one more letter, one of its own or a new one, in all ways."""
-    return [row + [letter] for letter in range(max(row, default=-1) + 2)]
+    return [row + [letter] for letter in range(letters_in(row) + 1)]
 
 
 def with_new_rank(row, rank):
@@ -15,7 +15,7 @@ def with_new_rank(row, rank):
 
 def longer_in_order(row):
     """The row with one more letter, of the rank of one of its own or of a new rank, in all ways."""
-    many = max(row, default=-1) + 1
+    many = letters_in(row)
     return [row + [letter] for letter in range(many)] + [with_new_rank(row, rank) for rank in range(many + 1)]
 
 

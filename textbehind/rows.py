@@ -17,6 +17,19 @@ def ranked(row):
     return [ranks[letter] for letter in row]
 
 
+def letters_in(row):
+    """The number of letters of a row that has the letters from 0 on."""
+    return max(row, default=-1) + 1
+
+
+def least_other(letters):
+    """The least letter that is not among these."""
+    letter = 0
+    while letter in letters:
+        letter += 1
+    return letter
+
+
 def goes_with(manner, met, letter, other):
     """Whether two rows that met these pairs of letters stay alike, in names or in order, with one more pair."""
     for earlier, other_earlier in met:

@@ -2,6 +2,7 @@
 
 MANNERS = ("letters", "names", "order")
 WORDS = ("front", "back", "odd", "even", "pair", "mirrors")
+COMPLETE_WORDS = ("front", "back", "odd", "even", "mirrors")
 SORTS = ("is", "least", "most")
 
 
@@ -37,6 +38,12 @@ def steps_of(size, entry, most):
     return [(start + k * way, other_start + k * other_way) for k in range(many)]
 
 
+def places_at(size, entry, step):
+    """The two places that the walks meet at a step, counted from 0."""
+    start, way, other_start, other_way = walks_of(size, entry)
+    return start + step * way, other_start + step * other_way
+
+
 def mirror_at(index):
     """The entry of a table of mirrors that has this index."""
     if index & 1:
@@ -55,3 +62,12 @@ def entries_of(size, word):
     if word == "pair":
         return [(word, place, later) for place in range(size) for later in range(place + 1, size)]
     return [mirror_at(index) for index in range(2 * size - 1)]
+
+
+def length_of(word, many):
+    """The length of the texts whose complete tables of a word have so many values."""
+    if word == "odd":
+        return many
+    if word == "mirrors":
+        return (many + 1) // 2
+    return many + 1
