@@ -12,6 +12,14 @@ CLASSES = {
     "errors": ["BehindError", "InvalidText", "InvalidSize", "InvalidManner", "InvalidWord", "InvalidEntry",
                "InvalidThing", "InvalidThings", "InvalidRow", "InvalidPlace", "InvalidCount", "Impossible",
                "NothingToUndo", "Unreadable", "InvalidCommand", "NotReady", "WrongRow", "Contradiction", "Needless"],
+    "live": ["Sheet", "LeanSheet"],
+    "console": ["Console"],
+}
+METHODS = {
+    "Sheet": {"__init__": "self size", "__call__": "self thing", "things": "self", "can_be": "self manner entry",
+              "follows": "self thing", "plainest": "self", "undo": "self", "__len__": "self", "__eq__": "self other"},
+    "LeanSheet": {"__init__": "self size", "__call__": "self thing", "__eq__": "self other"},
+    "Console": {"__init__": "self", "say": "self command"},
 }
 FUNCTIONS = {
     "texts": {"room": "size entry", "entries": "size word", "agreement": "text manner entry",
@@ -28,6 +36,9 @@ FUNCTIONS = {
                  "texts_over": "word row count", "ends": "fronts", "fronts_of": "ends_row", "next_ends": "ends_row",
                  "count_ends": "size *most", "beginning": "fronts length", "written": "fronts times place",
                  "hungry": "count"},
+    "counts": {"tables": "size manner word", "telling": "text manner words"},
+    "words": {"show_thing": "thing", "show_list": "things", "show_row": "row", "read_thing": "line",
+              "read_list": "lines", "read_row": "line"},
 }
 
 
@@ -64,6 +75,27 @@ class FormTest(unittest.TestCase):
             tree = ast.parse((FOLDER / f"{module}.py").read_text())
             defined = [node.name for node in tree.body if isinstance(node, (ast.FunctionDef, ast.ClassDef))]
             self.assertEqual([name for name in names if name not in defined], [], module)
+
+    def test_each_method_stands_in_its_own_class(self):
+        for module in ("live", "console"):
+            for node in ast.parse((FOLDER / f"{module}.py").read_text()).body:
+                if isinstance(node, ast.ClassDef):
+                    found = {row.name: " ".join(parameter.arg for parameter in row.args.args)
+                             for row in node.body if isinstance(row, ast.FunctionDef)}
+                    self.assertEqual(found, METHODS[node.name])
+
+    def test_things_is_a_property_and_size_an_attribute(self):
+        live = importlib.import_module("textbehind.live")
+        for kind in (live.Sheet, live.LeanSheet):
+            self.assertIsInstance(inspect.getattr_static(kind, "things"), property)
+            self.assertIn("size", vars(kind(3)))
+
+    def test_what_the_language_bars_beside_a_class_that_compares(self):
+        for path in files():
+            for node in ast.walk(ast.parse(path.read_text())):
+                self.assertNotIsInstance(node, ast.GeneratorExp, path)
+                if isinstance(node, ast.Attribute):
+                    self.assertNotEqual(node.attr, "sort", path)
 
     def test_the_rows_of_the_readme(self):
         found = doctest.testfile(str(FOLDER.parent / "README.md"), module_relative=False)

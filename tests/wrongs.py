@@ -97,3 +97,14 @@ def spoilt_rows(row, greatest):
     """The row with a wrong value, in each of its places; greatest: the greatest values that are right there."""
     wrong = [None, True, False, -1, -10 ** 30, "0", "", b"0", [0], (0,), [], {}, 10 ** 30, object(), [[0]]]
     return [row[:at] + [value] + row[at + 1:] for at in range(len(row)) for value in wrong + [greatest[at] + 1]]
+
+NO_WORD_LISTS = [None, True, 0, 7, "", "front", b"front", (), ("front",), {}, {"front": 1}, {"front"}, range(0),
+                 object(), Same(), Never(), ["front", "front"], ["odd", "even", "mirrors", "odd"],
+                 ["mirrors", "mirrors"], [["front"]], [("front",)], ["front", "pair", "letters"],
+                 ["front", Same(), "front"], ["front", Never()]] + NESTED
+NO_WORD_LISTS += [["pair", word] for word in NO_TABLE_WORDS] + [[word, "back"] for word in NO_TABLE_WORDS]
+WRONG["words"] = (errors.InvalidWord, NO_WORD_LISTS)
+
+# No texts at all, for texts in words and for commands.
+NO_STRINGS = [None, True, False, 0, 7, -1, b"", b"back", b"letters front 1 is 2", b"1 2", [], [""], ["back"], (),
+              ("text", 4), {}, {"back": 1}, {"back"}, object(), str, Same(), Never(), GOOD, [GOOD], [1, None]] + NESTED

@@ -2,7 +2,7 @@
 
 from textbehind.errors import InvalidCount, InvalidEntry, InvalidManner, InvalidPlace, InvalidRow
 from textbehind.errors import InvalidSize, InvalidText, InvalidThing, InvalidThings, InvalidWord
-from textbehind.walks import COMPLETE_WORDS, MANNERS, SORTS, WORDS, entries_of, length_of, room_of
+from textbehind.walks import COMPLETE_WORDS, ENTRY_WORDS, MANNERS, SORTS, WORDS, entries_of, length_of, room_of
 
 
 def is_count(value):
@@ -20,36 +20,40 @@ def is_text(value):
     return isinstance(value, list) and all([is_count(letter) for letter in value])
 
 
-def fits_word(size, word, numbers):
-    """Whether a word with these integers from 0 on is an entry in a text of so many letters."""
-    if word == "pair":
-        return len(numbers) == 2 and numbers[0] < numbers[1] < size
-    if len(numbers) != 1:
+def has_entry_form(value):
+    """Whether a value is a tuple of a word and as many integers from 0 on as its entries have."""
+    if not isinstance(value, tuple) or not value or not is_one_of(ENTRY_WORDS, value[0]):
         return False
-    place = numbers[0]
+    numbers = value[1:]
+    return len(numbers) == (2 if value[0] == "pair" else 1) and all([is_count(number) for number in numbers])
+
+
+def has_thing_form(value):
+    """Whether a value is a told thing by its form alone, whatever the text's length and the entry's room are."""
+    if not isinstance(value, tuple) or len(value) != 4:
+        return False
+    manner, entry, sort, told = value
+    return is_one_of(MANNERS, manner) and has_entry_form(entry) and is_one_of(SORTS, sort) and is_count(told)
+
+
+def fits_size(size, entry):
+    """Whether what has the form of an entry is one in a text of so many letters."""
+    word, place = entry[0], entry[1]
+    if word == "pair":
+        return place < entry[2] < size
     if word == "front" or word == "even":
         return 1 <= place < size
-    if word == "back":
-        return place < size - 1
-    return word == "odd" and place < size
+    return place < (size - 1 if word == "back" else size)
 
 
 def is_entry(size, value):
     """Whether a value is an entry in a text of so many letters."""
-    if not isinstance(value, tuple) or len(value) < 2 or not isinstance(value[0], str):
-        return False
-    numbers = value[1:]
-    return all([is_count(number) for number in numbers]) and fits_word(size, value[0], numbers)
+    return has_entry_form(value) and fits_size(size, value)
 
 
 def is_thing(size, value):
     """Whether a value is a told thing in a text of so many letters."""
-    if not isinstance(value, tuple) or len(value) != 4:
-        return False
-    manner, entry, sort, told = value
-    if not is_one_of(MANNERS, manner) or not is_entry(size, entry) or not is_one_of(SORTS, sort):
-        return False
-    return is_count(told) and told <= room_of(size, entry)
+    return has_thing_form(value) and fits_size(size, value[1]) and value[3] <= room_of(size, value[1])
 
 
 def is_row(size, word, value):
@@ -66,6 +70,11 @@ def is_row(size, word, value):
 def is_complete(word, value):
     """Whether a value is a list of values as a complete table of the word has them."""
     return isinstance(value, list) and is_row(length_of(word, len(value)), word, value) and None not in value
+
+
+def has_row_form(value):
+    """Whether a value is a list of integers from 0 on and None, whatever entries they are of."""
+    return isinstance(value, list) and all([number is None or is_count(number) for number in value])
 
 
 def is_row_of_ends(value):
@@ -93,6 +102,13 @@ def check_word(word):
         raise InvalidWord("a word is front, back, odd, even, pair or mirrors")
 
 
+def check_words(words):
+    if not isinstance(words, list) or not all([is_one_of(WORDS, word) for word in words]):
+        raise InvalidWord("here words are a list of front, back, odd, even, pair and mirrors")
+    if any([words.count(word) > 1 for word in words]):
+        raise InvalidWord("the words of a list are different")
+
+
 def check_entry(size, entry):
     if not is_entry(size, entry):
         raise InvalidEntry("this is no entry of a text of this length")
@@ -117,6 +133,21 @@ def check_list(size, things):
 def check_row(size, word, row):
     if not is_row(size, word, row):
         raise InvalidRow("a row has a value from 0 to the room, or None, for each entry of the word")
+
+
+def check_thing_form(thing):
+    if not has_thing_form(thing):
+        raise InvalidThing("this is no told thing of any text")
+
+
+def check_list_form(things):
+    if not isinstance(things, list) or not all([has_thing_form(thing) for thing in things]):
+        raise InvalidThings("this is no list of told things of any text")
+
+
+def check_row_form(row):
+    if not has_row_form(row):
+        raise InvalidRow("a row has integers from 0 on and None")
 
 
 def check_count(count):

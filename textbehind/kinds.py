@@ -1,5 +1,7 @@
 """The three kinds of lists, and what is asked of each in its own way."""
 
+from itertools import combinations
+
 from textbehind.joins import denials, freest_text, text_with_a_denial
 from textbehind.parts import texts_having, true_masks
 from textbehind.rows import has_all
@@ -74,3 +76,16 @@ def is_needless(size, things, masks, indexes, at):
         return surely_has(size, [things[index] for index in indexes], things[at])
     wanted = mask_of(indexes)
     return all([mask >> at & 1 == 1 for mask in masks if mask & wanted == wanted])
+
+
+def first_clash(size, things):
+    """The first clash of a list that is impossible, but possible without its last thing; None if it is possible."""
+    masks = masks_of(size, things)
+    last = len(things) - 1
+    # The last thing is in every clash; and the first choice that is impossible with it has no lesser one in it.
+    for many in range(len(things)):
+        for chosen in combinations(range(last), many):
+            indexes = list(chosen) + [last]
+            if not stands(size, things, masks, indexes):
+                return indexes
+    return None

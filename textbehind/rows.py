@@ -64,6 +64,12 @@ def agreed(row, manner, steps):
     return len(steps)
 
 
+def agreements(row, manner, entries):
+    """The agreements of these entries in a text."""
+    size = len(row)
+    return [agreed(row, manner, steps_of(size, entry, size)) for entry in entries]
+
+
 def deciding_steps(size, thing):
     """The first steps of the walks, as many as decide whether the thing is true."""
     _, entry, sort, value = thing

@@ -2,7 +2,7 @@
 
 from textbehind.checks import check_entry, check_manner, check_row, check_size
 from textbehind.checks import check_text, check_thing, check_things, check_word
-from textbehind.rows import agreed, holds, numbered, ranked
+from textbehind.rows import agreed, agreements, holds, numbered, ranked
 from textbehind.walks import entries_of, room_of, steps_of
 
 
@@ -33,8 +33,7 @@ def table(text, manner, word):
     check_text(text)
     check_manner(manner)
     check_word(word)
-    size = len(text)
-    return [agreed(text, manner, steps_of(size, entry, size)) for entry in entries_of(size, word)]
+    return agreements(text, manner, entries_of(len(text), word))
 
 
 def plain(text, manner):

@@ -2,6 +2,7 @@
 
 MANNERS = ("letters", "names", "order")
 WORDS = ("front", "back", "odd", "even", "pair", "mirrors")
+ENTRY_WORDS = ("front", "back", "odd", "even", "pair")
 COMPLETE_WORDS = ("front", "back", "odd", "even", "mirrors")
 SORTS = ("is", "least", "most")
 
